@@ -1,0 +1,1 @@
+"""Signfours: numbers of four parts that do not commute."""

@@ -1,0 +1,1 @@
+"""Algebras and their fours."""

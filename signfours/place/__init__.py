@@ -1,0 +1,1 @@
+"""Places, and the signs of two numbers at them."""

@@ -1,0 +1,1 @@
+"""What shows that an algebra consists of all tables."""

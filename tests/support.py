@@ -1,0 +1,55 @@
+"""What the tests share: values of every kind, and how errors are asked for."""
+
+import unittest
+
+from signfours.base.ratios import Ratio
+from signfours.errors import InvalidNumber
+from signfours.four.fours import Algebra, Four
+
+HAMILTON, ELEVEN = Algebra(-1, -1), Algebra(-1, -11)
+SPLIT, TEN = Algebra(1, 1), Algebra(2, 5)
+ALGEBRAS = (HAMILTON, ELEVEN, SPLIT, TEN, Algebra(3, -7), Algebra(-4, 6), Algebra(999999937, -10 ** 9))
+
+SIXTY = 10 ** 60 - 1
+LONG = 10 ** 60
+
+# Values that are no integers; True and False are none either.
+NO_INTEGERS = (
+    None, True, False, "", "1", "a", "0" * 4000, (), (1,), (1, 2, 3), ((1, 2), (3,)), [], [1], [1, 2, 3],
+    {}, {1: 2}, {"a": [None, (True,)]}, Ratio(0), Ratio(2), Ratio(1, 2), HAMILTON,
+    Four(HAMILTON, (0, 0, 0, 0)), Four(HAMILTON, (2, 0, 0, 0)),
+)
+TOO_LONG = (LONG, -LONG, 10 ** 99)
+# Values that are no numbers: integers other than 0 of a size of at most 10 ** 9.
+NO_NUMBERS = NO_INTEGERS + TOO_LONG + (0, 10 ** 9 + 1, -10 ** 9 - 1, SIXTY)
+NO_PRIMES = NO_INTEGERS + TOO_LONG + (0, 1, -1, -2, 4, 9, 561, 1000, 31607 ** 2, 10 ** 9, 10 ** 9 + 7)
+NO_RATIOS = tuple(value for value in NO_INTEGERS if not isinstance(value, Ratio)) + TOO_LONG
+NO_FOURS = tuple(value for value in NO_INTEGERS if not isinstance(value, Four)) + (0, 1) + TOO_LONG
+NO_ALGEBRAS = tuple(value for value in NO_INTEGERS if not isinstance(value, Algebra)) + (0, 1) + TOO_LONG
+
+
+def is_prime_by_trial(number):
+    return number > 1 and all(number % divisor for divisor in range(2, int(number ** 0.5) + 1))
+
+
+def primes_to(most):
+    return [number for number in range(2, most + 1) if is_prime_by_trial(number)]
+
+
+class Case(unittest.TestCase):
+    """A test case with questions about errors."""
+
+    def error_of(self, error, function, *arguments):
+        with self.assertRaises(error) as caught:
+            function(*arguments)
+        self.assertIs(type(caught.exception), error)
+        return caught.exception
+
+    def no_number(self, given, function, *arguments):
+        caught = self.error_of(InvalidNumber, function, *arguments)
+        self.same(caught.given, given)
+
+    def same(self, one, other):
+        """Equal, and of one kind: True is not 1."""
+        self.assertIs(type(one), type(other))
+        self.assertEqual(one, other)
