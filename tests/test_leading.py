@@ -265,6 +265,21 @@ class Turns(Case):
                 else:
                     self.error_of(InvalidOperation, four_of_turn, algebra, table)
 
+    def test_diagonals(self):
+        # Two of the three norms can be kept, the determinant can be 1, or k can be led as i j is.
+        half = Ratio(1, 2)
+        for algebra in DRAWN:
+            for x, y, z in (
+                (1, 2, 2), (2, 1, 2), (2, 2, 4), (2, 2, 1), (1, 1, 2), (1, 2, 1), (2, 1, 1), (1, 2, half), (2, 1, half),
+                (2, half, 1), (half, 2, 1), (-1, 2, -2), (2, -1, -2), (half, half, 4), (half, 1, half), (1, half, half),
+            ):
+                table = table_of(((1, 0, 0), (0, 1, 0), (0, 0, 1)))
+                for at, size in enumerate((x, y, z)):
+                    table = with_entry(table, at, at, table[at][at] * size)
+                self.assertIs(is_turn(algebra, table), self.is_turn_by_rule(algebra, table))
+                self.assertIs(is_turn(algebra, table), False)
+                self.error_of(InvalidOperation, four_of_turn, algebra, table)
+
     def test_tables_near_turns(self):
         draw = random.Random(67)
         for algebra in DRAWN:

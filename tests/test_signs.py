@@ -6,7 +6,7 @@ from functools import lru_cache
 
 from signfours.base.numbers import factors, square_free
 from signfours.place.signs import is_square_at, sign_at, signed_places
-from tests.support import Case, NO_INTEGERS, NO_NUMBERS, NO_PRIMES, SIXTY, TOO_LONG, is_prime_by_trial, primes_to
+from tests.support import Case, NO_NUMBERS, NO_PRIMES, primes_to
 
 GREAT = (10 ** 9, -(10 ** 9), 999999937, -999999929, 31607 ** 2, -(2 ** 29), 3 ** 18, 223092870, -720720, 999999000)
 NO_PLACES = tuple(value for value in NO_PRIMES if not (type(value) is int and value == 0))
@@ -71,7 +71,6 @@ class Signs(Case):
         self.assertEqual([sign_at(3 ** 17, 3, 3), sign_at(999999937, -1, 999999937), sign_at(999999937, 5, 999999937)], [-1, 1, -1])
 
     def test_great_prime_place(self):
-        # 10 is the least number that is no square modulo 999999937 with -1 a square there.
         prime = 999999937
         self.assertEqual(prime % 4, 1)
         for other in range(2, 30):

@@ -88,8 +88,7 @@ class Four:
         if not isinstance(other, Four):
             return NotImplemented
         check_operands(self, other)
-        pairs = zip(self.entries, other.entries)
-        entries = tuple([one * other.bottom + two * self.bottom for one, two in pairs])
+        entries = tuple([one * other.bottom + two * self.bottom for one, two in zip(self.entries, other.entries)])
         return made_four(self.algebra, entries, self.bottom * other.bottom)
 
     def __sub__(self, other):

@@ -18,7 +18,8 @@ def leading(one, other):
     # on all of them, so it is not 0 on one of those of a basis or on a sum of two of these.
     leads = [other * unit - unit * one.mate() for unit in one.algebra.basis()]
     sums = [leads[at] + leads[to] for at in range(4) for to in range(at)]
-    return primitive([lead for lead in leads + sums if lead.norm][0])
+    found = [lead for lead in leads + sums if lead.norm]
+    return primitive(found[0])
 
 
 def is_leading(one, other, value):
@@ -69,7 +70,8 @@ def four_of_turn(algebra, table):
     images = [units[0]] + images_of(algebra, table)
     # Each sum of image * w / unit leads all units to their images, and not all sums are 0.
     sums = [led_sum(images, units, start) for start in units]
-    return primitive([found for found in sums if found][0])
+    found = [led for led in sums if led]
+    return primitive(found[0])
 
 
 def led_sum(images, units, start):
