@@ -36,6 +36,17 @@ def primes_to(most):
     return [number for number in range(2, most + 1) if is_prime_by_trial(number)]
 
 
+def often(number, prime):
+    """How often the prime divides the number."""
+    return 0 if number % prime else 1 + often(number // prime, prime)
+
+
+def needed_power(a, b, prime):
+    """The power of the prime of [1.5]."""
+    most = max(often(a, prime), often(b, prime))
+    return prime ** (2 * most + 3 if prime == 2 else 2 * most + 1)
+
+
 class Case(unittest.TestCase):
     """A test case with questions about errors."""
 

@@ -5,16 +5,7 @@ import unittest
 
 from signfours.errors import TooMany
 from signfours.place.signs import is_local_point, local_point, sign_at
-from tests.support import Case, NO_INTEGERS, NO_NUMBERS, NO_PRIMES, SIXTY, primes_to
-
-
-def often(number, prime):
-    return 0 if number % prime else 1 + often(number // prime, prime)
-
-
-def needed_power(a, b, prime):
-    most = max(often(a, prime), often(b, prime))
-    return prime ** (2 * most + 3 if prime == 2 else 2 * most + 1)
+from tests.support import Case, NO_INTEGERS, NO_NUMBERS, NO_PRIMES, SIXTY, needed_power, primes_to
 
 
 def is_point_by_rule(a, b, prime, point):

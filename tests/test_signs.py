@@ -6,20 +6,11 @@ from functools import lru_cache
 
 from signfours.base.numbers import factors, square_free
 from signfours.place.signs import is_square_at, sign_at, signed_places
-from tests.support import Case, NO_NUMBERS, NO_PRIMES, primes_to
+from tests.support import Case, NO_NUMBERS, NO_PRIMES, needed_power, often, primes_to
 
 GREAT = (10 ** 9, -(10 ** 9), 999999937, -999999929, 31607 ** 2, -(2 ** 29), 3 ** 18, 223092870, -720720, 999999000)
 NO_PLACES = tuple(value for value in NO_PRIMES if not (type(value) is int and value == 0))
 SMALL = [number for number in range(-12, 13) if number != 0] + [16, -18, 24, -27, 32, 45, -50]
-
-
-def often(number, prime):
-    return 0 if number % prime else 1 + often(number // prime, prime)
-
-
-def needed_power(a, b, prime):
-    most = max(often(a, prime), often(b, prime))
-    return prime ** (2 * most + 3 if prime == 2 else 2 * most + 1)
 
 
 @lru_cache(maxsize=None)
