@@ -3,8 +3,10 @@
 import unittest
 
 from signfours.base.ratios import Ratio
-from signfours.errors import InvalidNumber
+from signfours.errors import InvalidLattice, InvalidNumber
 from signfours.four.fours import Algebra, Four
+from signfours.ideal.classes import Book
+from signfours.order.lattices import Lattice
 
 HAMILTON, ELEVEN = Algebra(-1, -1), Algebra(-1, -11)
 SPLIT, TEN = Algebra(1, 1), Algebra(2, 5)
@@ -27,6 +29,18 @@ NO_RATIOS = tuple(value for value in NO_INTEGERS if not isinstance(value, Ratio)
 NO_FOURS = tuple(value for value in NO_INTEGERS if not isinstance(value, Four)) + (0, 1) + TOO_LONG
 NO_ALGEBRAS = tuple(value for value in NO_INTEGERS if not isinstance(value, Algebra)) + (0, 1) + TOO_LONG
 
+ONE, I, J, K = HAMILTON.basis()
+PLAIN = Lattice(HAMILTON, (ONE, I, J, K))
+HALF = Four(HAMILTON, (1, 1, 1, 1), 2)
+# The greatest orders of the examples.
+HURWITZ = Lattice(HAMILTON, (ONE, I, J, K, HALF))
+GREAT = Lattice(ELEVEN, ELEVEN.basis()[:2] + (Four(ELEVEN, (1, 0, 1, 0), 2), Four(ELEVEN, (0, 1, 0, 1), 2)))
+# Values of many kinds, with objects of the package among them.
+VALUES = NO_INTEGERS + TOO_LONG + (
+    0, 1, -1, 2, HALF, ELEVEN, PLAIN, HURWITZ, GREAT, Book(GREAT), (PLAIN,), (HALF, HALF), (ONE, I, J, K), [PLAIN],
+)
+NO_LATTICES = tuple(value for value in VALUES if not isinstance(value, Lattice))
+
 
 def is_prime_by_trial(number):
     return number > 1 and all(number % divisor for divisor in range(2, int(number ** 0.5) + 1))
@@ -45,6 +59,29 @@ def needed_power(a, b, prime):
     """The power of the prime of [1.5]."""
     most = max(often(a, prime), often(b, prime))
     return prime ** (2 * most + 3 if prime == 2 else 2 * most + 1)
+
+
+def random_four(draw, algebra, size, bottom=1):
+    """A drawn four with a norm other than 0."""
+    while True:
+        entries = tuple(draw.randint(-size, size) for _ in range(4))
+        four = Four(algebra, entries, draw.randint(1, bottom))
+        if four.norm:
+            return four
+
+
+def random_lattice(draw, algebra, size, bottom=1, many=4):
+    """A drawn lattice."""
+    while True:
+        try:
+            return Lattice(algebra, tuple(random_four(draw, algebra, size, bottom) for _ in range(many)))
+        except InvalidLattice:
+            pass
+
+
+def led(order, four):
+    """The order of the fours z * x / z."""
+    return order.ahead(four).by(four.inverse())
 
 
 class Case(unittest.TestCase):

@@ -1,13 +1,30 @@
-"""The examples of the document, as they stand there: stages 1 and 2, and of stage 3 what speaks of points."""
+"""The examples of the document, as they stand there: stages 1 to 9."""
 
 import unittest
 
 from signfours.base.numbers import factors, is_prime, residue_sign, square_free
 from signfours.base.ratios import Ratio
+from signfours.errors import InvalidNumber, InvalidOperation, InvalidOrder, Refused
 from signfours.four.fours import Algebra, Four
 from signfours.four.leading import four_of_turn, is_leading, is_turn, leading, turn_of, turned
+from signfours.ideal.classes import Book, classes_by_rule, is_book, mass
+from signfours.ideal.ideals import (
+    are_one_class, generator, ideal_of, ideals_of, inverse, is_between, is_generator, is_ideal, is_primitive_in, neighbours,
+)
+from signfours.ideal.tables import (
+    is_balanced, is_joined, primitive_table, table_of_neighbours, table_product, table_trace, ways_table,
+)
+from signfours.order.lattices import Lattice
+from signfours.order.norms import counts_to, fours_of, least_weight, units
+from signfours.order.orders import (
+    greater, greatest_over, is_greatest, is_order, is_outside, order_discriminant, plain_order,
+)
 from signfours.place.signs import is_local_point, is_square_at, local_point, sign_at, signed_places
+from signfours.split.alike import (
+    are_alike, has_root, images, is_common_root, is_images, is_root_paper, joined, joined_places, root_paper,
+)
 from signfours.split.points import is_point, is_small_point, point_on, small_point
+from signfours.split.tables import algebra_at, four_of_table, is_table_pair, table_of, table_pair, zero_norm
 
 HAMILTON, ELEVEN = Algebra(-1, -1), Algebra(-1, -11)
 SPLIT, TEN = Algebra(1, 1), Algebra(2, 5)
@@ -61,6 +78,136 @@ class Examples(unittest.TestCase):
         self.assertEqual(
             [is_small_point(3, 5, 2, (1, 1, 2)), is_small_point(3, 5, 2, (3, 3, 6)), small_point(1, 1, 3), is_small_point(1, 1, 2, (1, -1, 1)), is_small_point(7, 2, 1, (1, 1, 3))],
             [True, False, None, True, True])
+
+    def test_tables(self):
+        ONE, NO = Ratio(1), Ratio(0)
+        PAIR = (((ONE, NO), (NO, -ONE)), ((NO, ONE), (ONE, NO)))
+        self.assertEqual(
+            [is_table_pair(SPLIT, PAIR), is_table_pair(SPLIT, (PAIR[0], PAIR[0])), is_table_pair(TEN, PAIR), table_pair(TEN), zero_norm(HAMILTON), zero_norm(SPLIT).norm == NO],
+            [True, False, False, None, None, True])
+        table = table_of(Four(SPLIT, (1, 2, 3, 4)), PAIR)
+        self.assertEqual(
+            ([[str(entry) for entry in row] for row in table], four_of_table(SPLIT, PAIR, table) == Four(SPLIT, (1, 2, 3, 4))),
+            ([['3', '7'], ['-1', '-1']], True))
+        self.assertEqual(
+            [algebra_at((2, 5)).places, algebra_at((0, 11)).places, algebra_at(()).is_tables, algebra_at((0, 2, 3, 7)).discriminant],
+            [(2, 5), (0, 11), True, 42])
+        with self.assertRaises(Refused) as caught:
+            algebra_at((0, 2, 3))
+        self.assertEqual(caught.exception.reason, ("odd", 3))
+
+    def test_alike_algebras_and_roots(self):
+        other, unit, third = Algebra(-1, -2), Four(HAMILTON, (0, 1, 0, 0)), Four(HAMILTON, (0, 0, 1, 1))
+        self.assertEqual(
+            [are_alike(other, HAMILTON), is_images(other, HAMILTON, (unit, third)), is_images(HAMILTON, HAMILTON, (unit, third)), images(HAMILTON, ELEVEN)],
+            [True, True, False, None])
+        self.assertEqual(
+            [root_paper(HAMILTON, -7), root_paper(HAMILTON, 2), has_root(HAMILTON, -3), has_root(SPLIT, 7), has_root(ELEVEN, -2)],
+            [('place', 2), ('place', 0), True, True, False])
+        self.assertEqual(
+            [is_root_paper(HAMILTON, -3, ("root", Four(HAMILTON, (0, 1, 1, 1)))), is_root_paper(HAMILTON, -3, ("place", 2)), is_root_paper(HAMILTON, 17, ("place", 2)), is_root_paper(HAMILTON, -2, ("place", 11))],
+            [True, False, True, False])
+        self.assertEqual(
+            [is_common_root(HAMILTON, ELEVEN, -1), is_common_root(HAMILTON, ELEVEN, -7), joined_places(HAMILTON, ELEVEN), joined(HAMILTON, ELEVEN).places, joined_places(ELEVEN, ELEVEN)],
+            [True, False, (2, 11), (2, 11), ()])
+        with self.assertRaises(InvalidNumber) as caught:
+            root_paper(HAMILTON, 9)
+        self.assertEqual(caught.exception.given, 9)
+
+    def test_lattices_and_orders(self):
+        PLAIN, HALF = plain_order(HAMILTON), Four(HAMILTON, (1, 1, 1, 1), 2)
+        HURWITZ = Lattice(HAMILTON, PLAIN.basis() + (HALF,))
+        self.assertEqual(
+            [str(PLAIN), str(HURWITZ), HALF in HURWITZ, HALF in PLAIN, 1 in PLAIN, str(PLAIN.index_in(HURWITZ)), HURWITZ.holds(PLAIN)],
+            ['1 0 0 0/0 1 0 0/0 0 1 0/0 0 0 1 over 1', '1 1 1 1/0 2 0 0/0 0 2 0/0 0 0 2 over 2', True, False, False, '2', True])
+        self.assertEqual(
+            [order_discriminant(PLAIN), order_discriminant(HURWITZ), is_greatest(PLAIN), greatest_over(PLAIN) == HURWITZ, order_discriminant(plain_order(ELEVEN)), order_discriminant(plain_order(SPLIT))],
+            [4, 2, False, True, 44, 4])
+        ONE, I, J, K = ELEVEN.basis()
+        GREAT = Lattice(ELEVEN, (ONE, I, Four(ELEVEN, (1, 0, 1, 0), 2), Four(ELEVEN, (0, 1, 0, 1), 2)))
+        self.assertEqual(
+            [str(GREAT), is_order(GREAT), order_discriminant(GREAT), str(GREAT.lattice_norm()), greater(GREAT)],
+            ['1 0 1 0/0 1 0 1/0 0 2 0/0 0 0 2 over 2', True, 11, '1', None])
+        IDEAL = GREAT.by(ONE + I)
+        self.assertEqual(
+            [str(IDEAL.lattice_norm()), str(IDEAL.index_in(GREAT)), IDEAL.left_order() == GREAT, IDEAL.mates().left_order() == IDEAL.right_order(), IDEAL.bottom, IDEAL.scaled(Ratio(1, 2)).bottom],
+            ['2', '4', True, True, 2, 4])
+        ODD = Lattice(ELEVEN, (ONE, I, J, K.scaled(Ratio(2))))
+        self.assertEqual(
+            [is_order(ODD), is_outside(ODD, ("product", I, J)), is_outside(ODD, ("one",)), is_outside(GREAT, None), is_outside(GREAT.scaled(Ratio(2)), ("one",))],
+            [False, True, False, True, True])
+        with self.assertRaises(InvalidOrder):
+            greatest_over(ODD)
+        self.assertEqual(I * Four(ELEVEN, (1, 0, 1, 0), 2), Four(ELEVEN, (0, 1, 0, 1), 2))
+
+    def test_norms(self):
+        plain, best = plain_order(HAMILTON), greatest_over(plain_order(HAMILTON))
+        self.assertEqual(
+            [counts_to(plain, 4), counts_to(best, 4), len(units(plain)), len(units(best)), least_weight(best.scaled(Ratio(3, 2)))],
+            [(1, 8, 24, 32, 24), (1, 24, 24, 96, 24), 8, 24, 1])
+        self.assertEqual(
+            ([str(one) for one in units(plain)][:3], [one.norm == Ratio(2) for one in fours_of(plain, 2)] == [True] * 24, fours_of(plain, 0) == (Four(HAMILTON, (0, 0, 0, 0)),)),
+            (['-1', '-i', '-j'], True, True))
+        with self.assertRaises(Refused) as caught:
+            units(plain_order(SPLIT))
+        self.assertEqual(caught.exception.reason, ("definite",))
+
+    def test_ideals(self):
+        HURWITZ = greatest_over(plain_order(HAMILTON))
+        ONE, I, J, K = ELEVEN.basis()
+        GREAT = Lattice(ELEVEN, (ONE, I, Four(ELEVEN, (1, 0, 1, 0), 2), Four(ELEVEN, (0, 1, 0, 1), 2)))
+        self.assertEqual(
+            [[len(neighbours(HURWITZ, prime)) for prime in (2, 3, 5)], [len(ideals_of(HURWITZ, norm)) for norm in (1, 4, 6, 9)], len(neighbours(GREAT, 11))],
+            [[1, 4, 6], [1, 1, 4, 13], 1])
+        one, i, j, k = HAMILTON.basis()
+        left = ideal_of(HURWITZ, (one + i + j, one.scaled(3)))
+        self.assertEqual(
+            [str(left.lattice_norm()), is_generator(left, one + i + j), is_generator(left, i * (one + i + j)), is_generator(left, (one + i + j) * i), left * inverse(left) == HURWITZ],
+            ['3', True, True, False, True])
+        TWOS = neighbours(GREAT, 2)
+        self.assertEqual(
+            [len(TWOS), GREAT.by(ONE + I) in TWOS, [generator(two) is None for two in TWOS].count(True), are_one_class(GREAT, GREAT.by(J)), is_between(GREAT, GREAT.by(ONE + I), I + ONE)],
+            [3, True, 2, True, True])
+        self.assertEqual(
+            [is_primitive_in(HURWITZ, left), is_primitive_in(HURWITZ, HURWITZ.scaled(Ratio(2))), is_ideal(plain_order(HAMILTON)), is_ideal(HURWITZ.scaled(Ratio(1, 3)))],
+            [True, False, False, True])
+        with self.assertRaises(InvalidOperation):
+            generator(greatest_over(plain_order(TEN)))
+
+    def test_classes(self):
+        ORDER = greatest_over(plain_order(ELEVEN))
+        book = Book(ORDER)
+        self.assertEqual(
+            [len(book), sorted(book.weights), str(mass(ORDER)), book.ideals[0] == ORDER, book.index(ORDER), book.kinds()],
+            [2, [4, 6], '5/12', True, 0, ((0,), (1,))])
+        self.assertEqual(
+            [classes_by_rule(primes) for primes in ((2,), (3,), (5,), (7,), (13,), (11,), (2, 3, 5), (37,))],
+            [1, 1, 1, 1, 1, 2, 2, 3])
+        self.assertEqual(
+            [is_book(ORDER, book.ideals), is_book(ORDER, book.ideals[::-1]), is_book(ORDER, book.ideals[:1]), is_book(ORDER, (ORDER, ORDER)), book.lead(0, 1)],
+            [True, True, False, False, None])
+        two = Book(greatest_over(plain_order(HAMILTON)))
+        self.assertEqual(
+            [str(two), two.kinds(), two.order in two, is_book(two.order, (two.order.by(Four(HAMILTON, (1, 2, 0, 3), 5)),))],
+            ['book of 1 classes: weights 24', ((0,),), True, True])
+
+    def test_tables_of_neighbours(self):
+        book = Book(greatest_over(plain_order(ELEVEN)))
+        four, six = book.weights.index(4), book.weights.index(6)
+        two, three = table_of_neighbours(book, 2), table_of_neighbours(book, 3)
+        self.assertEqual(
+            [len(two), two[four][four], two[four][six], two[six][four], two[six][six], three[four][four], three[four][six], three[six][four], three[six][six]],
+            [2, 1, 2, 3, 0, 2, 2, 3, 1])
+        self.assertEqual(
+            [table_product(two, three) == table_of_neighbours(book, 6) == table_product(three, two), [sum(row) for row in table_of_neighbours(book, 6)], table_of_neighbours(book, 11)],
+            [True, [12, 12], ((1, 0), (0, 1))])
+        self.assertEqual(
+            [table_trace(two), is_balanced(book, two), is_balanced(book, ((0, 1), (1, 0))), is_joined(book, 2), is_joined(book, 11)],
+            [1, True, False, True, False])
+        fours = primitive_table(book, 4)
+        self.assertEqual(
+            [fours[four][four], fours[six][four], ways_table(book, 2, 2) == fours, [sum(row) for row in ways_table(book, 2, 3)], ways_table(book, 3, 0)],
+            [4, 3, True, [12, 12], ((1, 0), (0, 1))])
 
 
 if __name__ == "__main__":

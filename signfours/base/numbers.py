@@ -21,6 +21,11 @@ def is_prime(value):
 def factors(number):
     """The dict from the primes that divide the number to how often each one does."""
     check_number(number)
+    return prime_powers(number)
+
+
+def prime_powers(number):
+    """The factors of an integer other than 0 of any size; the second greatest prime tells the time."""
     rest = abs(number)
     found = {}
     divisor = 2
@@ -35,8 +40,14 @@ def factors(number):
 
 def square_free(number):
     """The number without its square divisors, with its sign."""
+    check_number(number)
+    return free_part(number)
+
+
+def free_part(number):
+    """The square-free part of an integer other than 0 of any size."""
     free = 1
-    for prime, many in factors(number).items():
+    for prime, many in prime_powers(number).items():
         if many % 2 == 1:
             free = free * prime
     return free if number > 0 else -free

@@ -1,6 +1,6 @@
 """Algebras of two numbers, and their fours."""
 
-from math import gcd
+from math import gcd, lcm
 
 from signfours.base.checks import is_passed
 from signfours.base.ratios import check_ratio, made_ratio, terms_of
@@ -151,6 +151,26 @@ def check_fours(one, other):
     check_four(other)
     if one.algebra != other.algebra:
         raise InvalidFour("fours of unlike algebras")
+
+
+def is_four_of(algebra, value):
+    """Whether the value is a four of the algebra."""
+    return isinstance(value, Four) and value.algebra == algebra
+
+
+def is_fours_of(algebra, value, least, most):
+    """Whether the value is a tuple of fours of the algebra, neither too few nor too many."""
+    if not isinstance(value, tuple) or not least <= len(value) <= most:
+        return False
+    return all([is_four_of(algebra, four) for four in value])
+
+
+def over_one_bottom(fours):
+    """The list of the entries of some fours over one bottom, and this bottom."""
+    bottom = 1
+    for four in fours:
+        bottom = lcm(bottom, four.bottom)
+    return [tuple([entry * (bottom // four.bottom) for entry in four.entries]) for four in fours], bottom
 
 
 def check_operands(one, other):

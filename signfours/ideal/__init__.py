@@ -1,0 +1,1 @@
+"""Ideals of greatest orders, their classes and their neighbours."""

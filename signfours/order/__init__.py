@@ -1,0 +1,1 @@
+"""Lattices and orders, and the norms of their members."""
