@@ -223,6 +223,22 @@ class Statements(unittest.TestCase):
             if isinstance(node.func, ast.Name) and node.func.id in ("any", "all", "min", "max", "sum", "sorted"):
                 self.assertFalse([one for one in node.args if isinstance(one, ast.GeneratorExp)], (path, node.lineno))
 
+    def test_stars_in_calls(self):
+        for path, node in self.nodes(ast.Call):
+            for one in node.args:
+                if isinstance(one, ast.Starred):
+                    self.assertIsInstance(one.value, (ast.Name, ast.Attribute), (path, node.lineno))
+
+    def test_kept_answers(self):
+        # A name that begins with an underscore is assigned None in an `__init__`, and else stands in a property alone.
+        for path, tree in TREES.items():
+            for function in functions(tree):
+                kept = [node for node in ast.walk(function) if isinstance(node, ast.Attribute) and node.attr.startswith("_")]
+                decorated = [getattr(one, "id", None) for one in function.decorator_list]
+                if [node for node in kept if not node.attr.startswith("__")] and function.name != "__init__":
+                    self.assertEqual(decorated, ["property"], (path, function.name))
+                    self.assertEqual(len(function.body), 3, (path, function.name))
+
     def test_decorators(self):
         for path, node in self.nodes((ast.FunctionDef, ast.ClassDef)):
             for one in node.decorator_list:

@@ -122,6 +122,17 @@ class Times(Case):
             self.quick(0.5, ways_table, book, prime, 20)
             self.quick(0.5, is_joined, book, 29)
 
+    def test_books_of_led_orders(self):
+        draw = random.Random(104)
+        for primes in ((139,), (2, 3, 59)):
+            order = greatest_over(plain_order(placed(primes)))
+            order = led(order, random_four(draw, order.algebra, SIXTY, SIXTY))
+            book = self.quick(2, Book, order)
+            self.quick(1.5, is_book, order, book.ideals)
+            self.quick(1, book.kinds)
+            self.quick(1, book.index, book.ideals[-1].by(random_four(draw, order.algebra, SIXTY)))
+            self.quick(1, table_of_neighbours, book, 30)
+
 
 if __name__ == "__main__":
     unittest.main()

@@ -5,8 +5,12 @@ from signfours.base.numbers import MAX_NUMBER, is_prime, residue_sign
 from signfours.base.ratios import made_ratio
 from signfours.errors import InvalidIdeal, InvalidNumber, InvalidOperation, InvalidOrder, TooMany
 from signfours.four.fours import made_four
+from signfours.four.leading import primitive
 from signfours.ideal.ideals import is_ideal_of
-from signfours.ideal.steps import between_grid, joint_table, light_grid, member_of_weight, steps_within, unit_count
+from signfours.ideal.steps import (
+    between_grid, joint_table, light_grid, member_of_weight, small_turn, steps_within, unit_count,
+)
+from signfours.order.grids import ahead_grid, by_grid
 from signfours.order.lattices import Lattice, grid_in, made_lattice
 from signfours.order.orders import discriminant_of, is_order
 from signfours.order.shorts import points_of
@@ -19,17 +23,21 @@ class Book:
 
     def __init__(self, order):
         check_bounded_order(order)
-        found = class_grids(order)
+        algebra = order.algebra
         self.order = order
-        self.ideals = (order,) + tuple([made_lattice(order.algebra, grid) for grid in found[1:]])
-        self.weights = tuple([unit_count(order.algebra, grid) for grid in found])
+        # What the ideals tell is worked out from their twins, the products of a four and of their
+        # members: these have small integers, and the same right orders but for the order itself.
+        self.turn = small_turn(algebra, grid_in(order))
+        self.twins = tuple(class_grids(algebra, led_grid(algebra, grid_in(order), self.turn)))
+        self.ideals = (order,) + tuple([lattice_of_twin(algebra, grid, self.turn) for grid in self.twins[1:]])
+        self.weights = tuple([unit_count(algebra, grid) for grid in self.twins])
         self._joints = None
 
     @property
     def joints(self):
         """The tables of the weights of the fours between each ideal and those ahead of it and itself."""
         if self._joints is None:
-            self._joints = joint_tables(self.order.algebra, self.ideals)
+            self._joints = joint_tables(self.order.algebra, self.twins)
         return self._joints
 
     def index(self, ideal):
@@ -37,9 +45,8 @@ class Book:
         algebra = self.order.algebra
         if not is_ideal_of(algebra, grid_in(self.order), ideal):
             raise InvalidIdeal("no ideal of the order of the book")
-        light = light_grid(algebra, grid_in(ideal))
-        found = [at for at in range(len(self.ideals)) if is_one_class(algebra, grid_in(self.ideals[at]), light)]
-        return found[0]
+        light = light_twin(algebra, grid_in(ideal), self.turn)
+        return [is_one_class(algebra, twin, light) for twin in self.twins].index(True)
 
     def order_at(self, at):
         """The right order of the ideal at an index."""
@@ -76,8 +83,7 @@ class Book:
         return iter(self.ideals)
 
     def __str__(self):
-        weights = " ".join([str(weight) for weight in self.weights])
-        return f"book of {len(self.ideals)} classes: weights {weights}"
+        return f"book of {len(self.ideals)} classes: weights {written_weights(self.weights)}"
 
 
 def is_book(order, value):
@@ -88,7 +94,8 @@ def is_book(order, value):
         return False
     if not all([is_ideal_of(algebra, grid_in(order), ideal) for ideal in value]):
         return False
-    found = [light_grid(algebra, grid_in(ideal)) for ideal in value]
+    turn = small_turn(algebra, grid_in(order))
+    found = [light_twin(algebra, grid_in(ideal), turn) for ideal in value]
     return not any([is_one_class(algebra, found[at], found[to]) for at in range(len(found)) for to in range(at)])
 
 
@@ -155,15 +162,32 @@ def class_number(primes):
     return (totient(primes) + 3 * fourths + 4 * thirds) // 12
 
 
-def class_grids(order):
-    """The list of the grids of an ideal of each class, the order ahead."""
-    algebra, start = order.algebra, grid_in(order)
+def led_grid(algebra, grid, four):
+    """The grid of the fours z * x / z, for members x and a four z."""
+    back = four.inverse()
+    return by_grid(algebra, ahead_grid(algebra, grid, four.entries, four.bottom), back.entries, back.bottom)
+
+
+def light_twin(algebra, grid, turn):
+    """The grid of a light ideal in the class of the products of the turn and of the members of an ideal."""
+    return light_grid(algebra, ahead_grid(algebra, grid, turn.entries, turn.bottom))
+
+
+def lattice_of_twin(algebra, grid, turn):
+    """The lattice of the fours whose products with the turn are the members of a grid."""
+    back = turn.inverse()
+    return made_lattice(algebra, ahead_grid(algebra, grid, back.entries, back.bottom))
+
+
+def class_grids(algebra, start):
+    """The list of the grids of an ideal of each class of an order, told as a grid, this one ahead."""
     found, many = [start], class_number(algebra.places[1:])
     prime = [size for size in (2, 3, 5, 7, 11, 13, 17, 19, 23, 29) if algebra.discriminant % size != 0][0]
     at = 0
     # Each class is reached from neighbour to neighbour.
     while len(found) < many:
-        for step in steps_within(algebra, start, found[at], prime):
+        steps = steps_within(algebra, start, found[at], prime)
+        for step in steps:
             light = light_grid(algebra, step)
             if not any([is_one_class(algebra, grid, light) for grid in found]):
                 found = found + [light]
@@ -176,12 +200,9 @@ def is_one_class(algebra, one, other):
     return len(points_of(joint_table(algebra, one, other), 1)) > 0
 
 
-def joint_tables(algebra, ideals):
-    """The tuple that has at an index those of the tables of the ideal there and those ahead and itself."""
-    grids = [grid_in(ideal) for ideal in ideals]
-    return tuple([
-        tuple([joint_table(algebra, grids[to], grids[at]) for to in range(at + 1)]) for at in range(len(grids))
-    ])
+def joint_tables(algebra, grids):
+    """The list that has at an index the tables of the ideal there, with each one ahead and with itself."""
+    return [[joint_table(algebra, grids[to], grids[at]) for to in range(at + 1)] for at in range(len(grids))]
 
 
 def lead_between(book, at, to):
@@ -189,14 +210,29 @@ def lead_between(book, at, to):
     if book.weights[at] != book.weights[to]:
         return None
     algebra = book.order.algebra
-    grid = between_grid(algebra, grid_in(book.ideals[to]), grid_in(book.ideals[at]))
+    grid = between_grid(algebra, book.twins[to], book.twins[at])
     # The ideals that lead lie in this one; their norms are products of primes of the algebra, and
     # the members with such weights are just what makes them.
     for many in divisors(algebra.places[1:]):
         found = member_of_weight(algebra, grid, many)
         if found is not None:
-            return made_four(algebra, found[0], found[1])
+            return lead_of_twins(book, at, to, made_four(algebra, found[0], found[1]))
     return None
+
+
+def lead_of_twins(book, at, to, four):
+    """The four that does with the right orders of two ideals what a four does with those of their twins."""
+    # Only the order itself and its twin, the order led by the turn, have unlike right orders.
+    if at == 0:
+        four = four * book.turn
+    if to == 0:
+        four = book.turn.inverse() * four
+    return primitive(four)
+
+
+def written_weights(weights):
+    """The weights with a blank between them."""
+    return " ".join([str(weight) for weight in weights])
 
 
 def divisors(primes):

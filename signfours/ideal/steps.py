@@ -1,10 +1,12 @@
 """Ideals as grids: the ones within another one, light ones, and what takes one to another one."""
 
-from signfours.four.fours import product_entries
+from signfours.four.fours import made_four, mate_entries, product_entries
 from signfours.order.forms import (
     combined, content_of, echelon_modulo, pairings, radical_modulo, sub_grid, weight_at, weight_table,
 )
-from signfours.order.grids import coordinates, grid_of, mates_grid, product_grid, right_grid, scaled_grid
+from signfours.order.grids import (
+    UNITS, by_grid, coordinates, grid_of, mates_grid, product_grid, right_grid, scaled_grid,
+)
 from signfours.order.shorts import points_of, short_form
 
 
@@ -68,13 +70,27 @@ def member_of_weight(algebra, grid, many):
 
 def light_grid(algebra, grid):
     """The grid of an ideal of small norm in the class of an ideal of a definite algebra."""
+    top, bottom = norm_parts(algebra, grid)
+    found = by_grid(algebra, grid, mate_entries(short_row(algebra, grid)), grid[1])
+    return scaled_grid(found, bottom, top)
+
+
+def short_row(algebra, grid):
+    """A row of a grid of a definite algebra whose norm is small."""
     rows, table = short_form(algebra, grid[0])
     least = min([table[at][at] for at in range(4)])
-    short = [row for at, row in enumerate(rows) if table[at][at] == least][0]
-    w, x, y, z = short
-    vectors = [product_entries(algebra, row, (w, -x, -y, -z)) for row in grid[0]]
-    top, bottom = norm_parts(algebra, grid)
-    return scaled_grid(grid_of(vectors, grid[1] * grid[1]), bottom, top)
+    return [row for at, row in enumerate(rows) if table[at][at] == least][0]
+
+
+def small_turn(algebra, order):
+    """A four that leads a greatest order of a definite algebra to one with small integers.
+
+    The products of fours with integer entries and of members are an ideal with the order as its
+    right order and one with small integers as its left order. The inverse of a short member takes
+    it to a light ideal of the left order, and so the member leads the right order.
+    """
+    joint = product_grid(algebra, (UNITS, 1), order)
+    return made_four(algebra, short_row(algebra, joint), joint[1])
 
 
 def joint_table(algebra, one, other):

@@ -127,6 +127,16 @@ def product_grid(algebra, one, other):
     return grid_of(vectors, one[1] * other[1])
 
 
+def by_grid(algebra, grid, entries, bottom):
+    """The grid of the members multiplied by a four, told by its entries and its bottom."""
+    return grid_of([product_entries(algebra, row, entries) for row in grid[0]], grid[1] * bottom)
+
+
+def ahead_grid(algebra, grid, entries, bottom):
+    """The grid of the products of a four, told by its entries and its bottom, and of members."""
+    return grid_of([product_entries(algebra, entries, row) for row in grid[0]], grid[1] * bottom)
+
+
 def mates_grid(grid):
     """The grid of the mates of the members."""
     rows, bottom = grid

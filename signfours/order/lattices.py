@@ -2,13 +2,11 @@
 
 from signfours.base.ratios import check_ratio, made_ratio, terms_of
 from signfours.errors import InvalidFour, InvalidLattice, InvalidRatio
-from signfours.four.fours import (
-    check_algebra, is_four_of, is_fours_of, made_four, over_one_bottom, product_entries,
-)
+from signfours.four.fours import check_algebra, is_four_of, is_fours_of, made_four, over_one_bottom
 from signfours.order.forms import content_of, pairings
 from signfours.order.grids import (
-    coordinates, grid_of, has_all, left_grid, mates_grid, meet_grid, product_grid, right_grid, scaled_grid,
-    sum_grid, volume,
+    ahead_grid, by_grid, coordinates, grid_of, has_all, left_grid, mates_grid, meet_grid, product_grid, right_grid,
+    scaled_grid, sum_grid, volume,
 )
 
 LEAST_FOURS = 4
@@ -36,14 +34,12 @@ class Lattice:
     def by(self, four):
         """The lattice of all x * four with members x."""
         check_unit(self.algebra, four)
-        vectors = [product_entries(self.algebra, row, four.entries) for row in self.rows]
-        return made_lattice(self.algebra, grid_of(vectors, self.bottom * four.bottom))
+        return made_lattice(self.algebra, by_grid(self.algebra, grid_in(self), four.entries, four.bottom))
 
     def ahead(self, four):
         """The lattice of all four * x with members x."""
         check_unit(self.algebra, four)
-        vectors = [product_entries(self.algebra, four.entries, row) for row in self.rows]
-        return made_lattice(self.algebra, grid_of(vectors, self.bottom * four.bottom))
+        return made_lattice(self.algebra, ahead_grid(self.algebra, grid_in(self), four.entries, four.bottom))
 
     def mates(self):
         """The lattice of the mates of the members."""
@@ -110,8 +106,7 @@ class Lattice:
         )
 
     def __str__(self):
-        lines = [" ".join([str(entry) for entry in row]) for row in self.rows]
-        return f"{'/'.join(lines)} over {self.bottom}"
+        return f"{written_rows(self.rows)} over {self.bottom}"
 
 
 def made_lattice(algebra, grid):
@@ -120,6 +115,11 @@ def made_lattice(algebra, grid):
     made.rows = grid[0]
     made.bottom = grid[1]
     return made
+
+
+def written_rows(rows):
+    """The rows with / between them and a blank between integers."""
+    return "/".join([" ".join([str(entry) for entry in row]) for row in rows])
 
 
 def grid_in(lattice):

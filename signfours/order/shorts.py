@@ -80,24 +80,27 @@ def short_form(algebra, rows):
 
 
 def lines_to(table, most):
-    """The list of tuples (point, linear, constant, many) of the lines with points of weights up to a bound.
+    """The list of tuples (point, linear, constant, often) of the lines with points of weights up to a bound.
 
     The point has 0 ahead, and with c there its weight is half of the first pairing, multiplied by
-    c c, plus linear c plus constant. Of two opposite lines one is told, and `many` is 2 for it.
+    c c, plus linear c plus constant. Of two opposite lines one is told, and `often` is 2 for it.
     """
+    # Twice a weight, multiplied by the first pairing of its table, is a square plus what the next
+    # table makes of the other integers of the point, and so on; `bound` bounds all that is not square.
     second = complement(table, 1)
     third = complement(second, table[0][0])
     fourth = complement(third, second[0][0])
-    first, p, q, r = table[0][0], second[0][0], third[0][0], fourth[0][0]
+    first, inner, core, bare = table[0][0], second[0][0], third[0][0], fourth[0][0]
+    bound = 2 * most
     found = []
-    for last in range(isqrt(2 * most * q // r) + 1):
-        low, high = span(q, third[0][1] * last, p * (2 * most * q - r * last * last))
-        for next_last in range(0 if last == 0 else low, high + 1):
-            worth = next_last * (q * next_last + 2 * third[0][1] * last) + third[1][1] * last * last
-            shift = second[0][1] * next_last + second[0][2] * last
-            low, high = span(p, shift, first * (2 * most * p - worth))
-            for near in range(0 if last == 0 and next_last == 0 else low, high + 1):
-                found.append(line_at(table, (0, near, next_last, last)))
+    for last in range(isqrt(bound * core // bare) + 1):
+        low, high = span(core, third[0][1] * last, inner * (bound * core - bare * last * last))
+        for middle in range(0 if last == 0 else low, high + 1):
+            worth = middle * (core * middle + 2 * third[0][1] * last) + third[1][1] * last * last
+            shift = second[0][1] * middle + second[0][2] * last
+            low, high = span(inner, shift, first * (bound * inner - worth))
+            for near in range(0 if last == 0 and middle == 0 else low, high + 1):
+                found.append(line_at(table, (0, near, middle, last)))
     return found
 
 
@@ -120,11 +123,11 @@ def span(length, shift, room):
 
 def line_at(table, point):
     """A line, told by its point with 0 ahead."""
-    near, far, last = point[1:]
-    linear = table[0][1] * near + table[0][2] * far + table[0][3] * last
-    half = near * (table[1][1] * near + 2 * table[1][2] * far + 2 * table[1][3] * last)
-    half = half + far * (table[2][2] * far + 2 * table[2][3] * last) + table[3][3] * last * last
-    return (point, linear, half // 2, 2 if near or far or last else 1)
+    near, middle, last = point[1:]
+    linear = table[0][1] * near + table[0][2] * middle + table[0][3] * last
+    twice = near * (table[1][1] * near + 2 * table[1][2] * middle + 2 * table[1][3] * last)
+    twice = twice + middle * (table[2][2] * middle + 2 * table[2][3] * last) + table[3][3] * last * last
+    return (point, linear, twice // 2, 2 if near or middle or last else 1)
 
 
 def points_of(table, many):
