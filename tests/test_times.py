@@ -34,7 +34,7 @@ class Times(Case):
         return result
 
     def test_small_points(self):
-        # Issue 8: the search through all x and y took 30 thousandths of a second.
+        # A search through all x and y takes about 30 thousandths of a second at these two.
         self.assertIsNone(self.quick(0.002, small_point, 199, 197, 193))
         self.assertIsNone(self.quick(0.002, small_point, 178, 179, 193))
         draw = random.Random(101)

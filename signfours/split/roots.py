@@ -16,8 +16,8 @@ def root_pair(algebra, number):
     """
     shared = shared_number(algebra.a, number, algebra.places)
     i, j = algebra.basis()[1:3]
-    # Fours (z + x i) j have opposite products with i, and (z z - a x x) b as their squares; so
-    # have the fours (z + x y) i with a root y of the shared number found before.
+    # A four (z + x i) j has opposite products with i, and its square is (z z - a x x) b. With the
+    # second four in the place of i, and i in that of j, the same leads to a root of the number.
     second = anti_root(i, j, algebra.a, algebra.b, shared)
     return anti_root(second, i, shared, algebra.a, number), second, shared
 
@@ -40,10 +40,10 @@ def shared_number(one, other, places):
     primes = sorted(set([2, *prime_powers(one), *prime_powers(other), *[place for place in places if place > 0]]))
     start = 1
     for prime in primes:
-        if not can_share(one, other, prime, 1, places):
+        if not can_share(one, other, prime, places):
             start = start * prime
-    # The shared number is right at these primes by its rests modulo them alone, and at one prime
-    # more it is right as soon as it is right elsewhere; by Dirichlet there is such a prime.
+    # Whether the number is right at these primes is told by the rests of one prime more, and the
+    # number is right at that one as soon as it is elsewhere; by Dirichlet there is such a prime.
     size = 1
     while True:
         for number in (-size * start, size * start):
@@ -54,11 +54,9 @@ def shared_number(one, other, places):
             size = size + 1
 
 
-def can_share(one, other, prime, power, places):
-    """Whether a number that the prime does not divide but by this power is right at the prime."""
-    return any([
-        is_shared(one, other, unit * power, [prime], places) for unit in unit_classes(prime)
-    ])
+def can_share(one, other, prime, places):
+    """Whether some number that the prime does not divide is right at the prime."""
+    return any([is_shared(one, other, unit, [prime], places) for unit in unit_classes(prime)])
 
 
 def unit_classes(prime):
