@@ -127,6 +127,22 @@ class Fours(Case):
                     sorted((part.entries, part.bottom) for part in found),
                     sorted(((one * four).entries, (one * four).bottom) for one in fours_of(lattice, 25)))
 
+    def test_long_rows(self):
+        # Lattices whose integers are shortened by their first digits: the same lattices from short fours.
+        draw = random.Random(54)
+        for algebra in (HAMILTON, ELEVEN, Algebra(-(10 ** 9), -(10 ** 9) + 1)):
+            for size in (10 ** 30, SIXTY):
+                for lattice in (plain_order(algebra), random_lattice(draw, algebra, 3, 3)):
+                    one, other = (random_four(draw, algebra, size, size) for _ in range(2))
+                    long = lattice.by(one).ahead(other).by(one.mate())
+                    self.assertEqual(counts_to(long, 40), counts_to(lattice, 40))
+                    if any(counts_to(lattice, 200)[1:]):
+                        self.assertEqual(least_weight(long), least_weight(lattice))
+                    four = other * lattice.basis()[0] * (one * one.mate())
+                    weight = four.norm.over(long.lattice_norm())
+                    if weight.compared(200) < 1:
+                        self.assertIn(four, fours_of(long, weight.top))
+
     def test_multiples_of_the_units(self):
         # [6.4], [6.5]
         for lattice in self.lattices():

@@ -99,6 +99,11 @@ class Times(Case):
         self.quick(1, counts_to, GREAT.by(four), 200)
         self.quick(1, least_weight, GREAT.by(four))
         self.quick(1, units, led(GREAT, four))
+        draw = random.Random(105)
+        for many in (4, 8, 40):
+            lattice = Lattice(ELEVEN, tuple(random_four(draw, ELEVEN, SIXTY, SIXTY) for _ in range(many)))
+            self.quick(2, counts_to, lattice, 200)
+            self.quick(2, fours_of, lattice.scaled(SIXTY), 200)
 
     def test_ideals(self):
         for order in (HURWITZ, GREAT, greatest_over(plain_order(Algebra(2, 5))), led(GREAT, Four(ELEVEN, (1, 2, 0, 3)))):

@@ -8,11 +8,42 @@ from math import isqrt
 from signfours.order.forms import content_of, pairings
 from signfours.order.grids import less
 
+# How many binary digits of great integers are looked at, and by how many they have to fall then.
+WINDOW = 300
+LEAST_FALL = 30
+
 
 def short_rows(algebra, rows):
-    """Rows with the same sums of multiples, of small norms, as Lenstra, Lenstra and Lovasz find them."""
+    """Rows with the same sums of multiples, of small norms."""
     made = list(rows)
-    lengths, bounds = projections(pairings(algebra, rows))
+    size = greatest_size(made)
+    # Great integers fall quickly by what their first digits tell; the rows themselves tell the rest.
+    while size > WINDOW:
+        heads = [tuple([entry >> (size - WINDOW) for entry in row]) for row in made]
+        made = reduced_rows(with_units(pairings(algebra, heads)), made)
+        ahead, size = size, greatest_size(made)
+        if size > ahead - LEAST_FALL:
+            break
+    return reduced_rows(pairings(algebra, made), made)
+
+
+def greatest_size(rows):
+    """The number of the binary digits of the greatest entry."""
+    return max([abs(entry).bit_length() for row in rows for entry in row])
+
+
+def with_units(table):
+    """The pairings of rows to which the rows of the table of units are joined, so that none are dependent."""
+    return [[entry + (1 if at == to else 0) for to, entry in enumerate(row)] for at, row in enumerate(table)]
+
+
+def reduced_rows(table, rows):
+    """Rows with the same sums of multiples, shortened as Lenstra, Lenstra and Lovasz do it.
+
+    The table has the pairings by which they are shortened.
+    """
+    made = list(rows)
+    lengths, bounds = projections(table)
     at = 1
     while at < 4:
         for to in range(at - 1, -1, -1):
