@@ -214,6 +214,20 @@ class Kinds(Case):
                         self.assertEqual(led(book.order_at(at), four), book.order_at(to))
                         self.assertTrue(all(abs(part) <= SIXTY for part in four.entries + (four.bottom,)))
 
+    def test_leads_of_led_orders(self):
+        draw = random.Random(84)
+        for primes in ((2, 3, 5), (2, 3, 7), (2, 5, 7), (17,), (37,), (61,)):
+            for size in (3, 10 ** 12):
+                best = greatest_over(plain_order(placed(primes)))
+                order = led(best, random_four(draw, best.algebra, size, 5))
+                book = Book(order)
+                self.assertEqual(sorted(map(len, book.kinds())), sorted(map(len, Book(best).kinds())))
+                for kind in book.kinds():
+                    for at in kind:
+                        for to in kind:
+                            four = book.lead(at, to)
+                            self.assertEqual(led(book.order_at(at), four), book.order_at(to))
+
     def test_unlike_kinds_by_norms(self):
         # Orders of one kind have equally many fours of each norm; here the kinds are told by the numbers.
         for primes in ((11,), (17,), (37,), (43,)):

@@ -11,6 +11,7 @@ from signfours.ideal.ideals import (
     are_one_class, between, generator, ideal_of, ideals_of, inverse, is_between, is_generator, is_ideal, is_primitive_in,
     neighbours,
 )
+from signfours.ideal.steps import null_point
 from signfours.order.lattices import Lattice
 from signfours.order.norms import units
 from signfours.order.orders import greatest_over, is_greatest, plain_order
@@ -202,6 +203,23 @@ class Neighbours(Case):
         self.assertIs(is_ideal(ideal) and ideal.right_order() != GREAT, True)
         made = {str(one * other) for one in neighbours(HURWITZ, 3) for other in neighbours(HURWITZ, 3)}
         self.assertFalse({str(one) for one in ideals_of(HURWITZ, 9)} <= made)
+
+
+class NullPoints(Case):
+
+    def test_points_modulo_primes(self):
+        draw = random.Random(70)
+        for prime in (2, 3, 5, 7):
+            for _ in range(300):
+                table = [[0] * 4 for _ in range(4)]
+                for at in range(4):
+                    table[at][at] = 2 * draw.randrange(prime)
+                    for to in range(at):
+                        table[at][to] = table[to][at] = draw.choice((0, draw.randrange(prime)))
+                point = null_point(table, prime)
+                self.assertTrue(any(part % prime for part in point))
+                worth = sum(table[at][to] * point[at] * point[to] for at in range(4) for to in range(4))
+                self.assertEqual(worth // 2 % prime, 0)
 
 
 class Primitive(Case):

@@ -23,7 +23,7 @@ def plain_rows(vectors):
                 base[at] = raised(rest, at)
                 break
             pivot, rest = divided_pair(rest, base[at], at)
-            base[at] = lessened(raised(pivot, at), base, at)
+            base[at] = lessened(pivot, base, at)
             rest = lessened(rest, base, at)
     if None in base:
         return None
@@ -31,7 +31,10 @@ def plain_rows(vectors):
 
 
 def divided_pair(one, other, at):
-    """Two vectors with the same sums of multiples as two others; the second one has 0 at the index."""
+    """Two vectors with the same sums of multiples as two others; the second one has 0 at the index.
+
+    The first one has an entry above 0 there, as the second one of the others has.
+    """
     while other[at] != 0:
         one, other = other, less(one, one[at] // other[at], other)
     return one, other
