@@ -230,7 +230,7 @@ class Errors(Case):
                 self.assertEqual(self.error_of(Refused, function, plain_order(algebra)).reason, ("definite",))
 
     def test_too_many_fours(self):
-        # No lattice has more than 10000 fours of a weight of at most 200; the bound itself is asked all the same.
+        # No lattice is known here with more than 8064 fours of a weight of at most 200; the bound is asked all the same.
         self.assertLessEqual(max(counts_to(HURWITZ, 200)), 10000)
         many = norms.MOST_FOURS
         self.assertEqual(many, 10000)
