@@ -1,0 +1,1 @@
+"""A desk of things and of sayings about them."""

@@ -1,0 +1,1 @@
+"""Forms in two and in three unknowns."""

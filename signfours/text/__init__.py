@@ -1,0 +1,1 @@
+"""Texts of algebras, fours and lattices."""

@@ -1,0 +1,1 @@
+"""Whole fours, their factors and points, sums of squares, and webs."""
