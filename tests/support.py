@@ -3,10 +3,12 @@
 import unittest
 
 from signfours.base.ratios import Ratio
-from signfours.errors import InvalidLattice, InvalidNumber
+from signfours.desk.desk import Desk
+from signfours.errors import InvalidLattice, InvalidNumber, Refused, TooMany
 from signfours.four.fours import Algebra, Four
 from signfours.ideal.classes import Book
 from signfours.order.lattices import Lattice
+from signfours.whole.webs import Web
 
 HAMILTON, ELEVEN = Algebra(-1, -1), Algebra(-1, -11)
 SPLIT, TEN = Algebra(1, 1), Algebra(2, 5)
@@ -38,6 +40,7 @@ GREAT = Lattice(ELEVEN, ELEVEN.basis()[:2] + (Four(ELEVEN, (1, 0, 1, 0), 2), Fou
 # Values of many kinds, with objects of the package among them.
 VALUES = NO_INTEGERS + TOO_LONG + (
     0, 1, -1, 2, HALF, ELEVEN, PLAIN, HURWITZ, GREAT, Book(GREAT), (PLAIN,), (HALF, HALF), (ONE, I, J, K), [PLAIN],
+    Web(5, 3), Desk(HAMILTON), (1, 1, 6), (4, 4, 3, 4, 4, 0), ((1, 0), (0, 1)),
 )
 NO_LATTICES = tuple(value for value in VALUES if not isinstance(value, Lattice))
 
@@ -96,6 +99,12 @@ class Case(unittest.TestCase):
     def no_number(self, given, function, *arguments):
         caught = self.error_of(InvalidNumber, function, *arguments)
         self.same(caught.given, given)
+
+    def too_many(self, most, function, *arguments):
+        self.assertEqual(self.error_of(TooMany, function, *arguments).most, most)
+
+    def refused(self, reason, function, *arguments):
+        self.assertEqual(self.error_of(Refused, function, *arguments).reason, reason)
 
     def same(self, one, other):
         """Equal, and of one kind: True is not 1."""

@@ -78,10 +78,10 @@ def trace_by_forms(primes, many):
     """The sum of the summands of all integers."""
     check_primes(primes)
     check_many(many)
-    most = isqrt(4 * many)
-    total = Ratio(0)
-    for trace in range(-most, most + 1):
-        total = total + summand_of(primes, 4 * many - trace * trace)
+    total = summand_of(primes, 4 * many)
+    for trace in range(1, isqrt(4 * many) + 1):
+        # Opposite integers have equal summands.
+        total = total + summand_of(primes, 4 * many - trace * trace) * 2
     return total.top
 
 

@@ -8,8 +8,7 @@ from signfours.errors import InvalidFour, InvalidOperation, TooMany
 from signfours.four.fours import Four
 from signfours.order.lattices import Lattice
 from signfours.whole.parts import (
-    common_rows, doubled, factor_ahead, hamilton, is_whole_four, middle_quotient, plain_quotient, small_row,
-    without_factor,
+    common_rows, doubled, factor_ahead, hamilton, is_whole_four, small_division, small_row, without_factor,
 )
 
 MAX_FACTOR = 1000
@@ -42,13 +41,7 @@ def divided(one, other, *, ahead=False):
     if ahead:
         quotient, rest = divided(one.mate(), other.mate())
         return quotient.mate(), rest.mate()
-    quotient = plain_quotient(one, other)
-    rest = one - quotient * other
-    # Only a quotient with halves as its entries is as far from integers.
-    if rest.norm == other.norm:
-        quotient = middle_quotient(one, other)
-        rest = one - quotient * other
-    return quotient, rest
+    return small_division(one, other)
 
 
 def is_divided(one, other, value, *, ahead=False):

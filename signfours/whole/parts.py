@@ -35,16 +35,24 @@ def unit_fours():
     return plain + [Four(algebra, (p, q, r, s), 2) for p in SIGNS for q in SIGNS for r in SIGNS for s in SIGNS]
 
 
-def plain_quotient(one, other):
-    """The four with the integers nearest to the entries of the quotient of two whole fours."""
+def small_division(one, other):
+    """A pair (q, r) with one == q * other + r, a norm of r less than that of other, and small integers."""
     entries, size = quotient_parts(one, other)
-    return made_four(one.algebra, nearest_integers(entries, size), 1)
+    plain = made_four(one.algebra, nearest_integers(entries, size), 1)
+    middle = made_four(one.algebra, nearest_odds(entries, size), 2)
+    found = smallest_pair(one, other, [plain, middle])
+    # Of fours with integers of sixty digits the halves can be longer; then others are tried.
+    if greatest_part(found) >= TOO_LONG:
+        found = smallest_pair(one, other, [plain, middle, one - one] + [plain + unit for unit in unit_fours()])
+    return found
 
 
-def middle_quotient(one, other):
-    """The four with the halves of odd integers nearest to the entries of the quotient."""
-    entries, size = quotient_parts(one, other)
-    return made_four(one.algebra, nearest_odds(entries, size), 2)
+def smallest_pair(one, other, quotients):
+    """The pair (q, r) with the smallest integers of those that some quotients tell."""
+    pairs = [(quotient, one - quotient * other) for quotient in quotients]
+    right = [pair for pair in pairs if pair[1].norm.compared(other.norm) < 0]
+    sizes = [greatest_part(pair) for pair in right]
+    return right[sizes.index(min(sizes))]
 
 
 def nearest_quotient(one, other):
@@ -76,6 +84,11 @@ def fault_of(entries, size, parts):
     """How far half of the parts are from the entries over a size, as a square that grows with it."""
     faults = [2 * entry - size * part for entry, part in zip(entries, parts)]
     return sum([fault * fault for fault in faults])
+
+
+def greatest_part(fours):
+    """The greatest size of an integer of some fours."""
+    return max([abs(entry) for four in fours for entry in four.entries])
 
 
 def common_behind(one, other):
@@ -117,11 +130,6 @@ def moved_row(row):
     moved = [(unit * row[0], unit * row[1], unit * row[2]) for unit in unit_fours()]
     sizes = [greatest_part(triple) for triple in moved]
     return moved[sizes.index(min(sizes))]
-
-
-def greatest_part(fours):
-    """The greatest size of an integer of some fours."""
-    return max([abs(entry) for four in fours for entry in four.entries])
 
 
 def factor_ahead(four, prime):
