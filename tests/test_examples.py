@@ -1,10 +1,17 @@
-"""The examples of the document, as they stand there: stages 1 to 9."""
+"""The examples of the document, as they stand there."""
 
 import unittest
 
 from signfours.base.numbers import factors, is_prime, residue_sign, square_free
 from signfours.base.ratios import Ratio
-from signfours.errors import InvalidNumber, InvalidOperation, InvalidOrder, Refused
+from signfours.desk.desk import Desk
+from signfours.errors import InvalidNumber, InvalidOperation, InvalidOrder, ParseError, Refused
+from signfours.form.threes import (
+    are_forms_alike, form_discriminant, form_of, form_value, is_form, is_form_lead, is_turning_basis, three_form, value_counts,
+)
+from signfours.form.twos import (
+    class_number, fours_with, is_reduced, is_reducing, reduced, reduced_forms, summand, trace_by_forms, unit_number,
+)
 from signfours.four.fours import Algebra, Four
 from signfours.four.leading import four_of_turn, is_leading, is_turn, leading, turn_of, turned
 from signfours.ideal.classes import Book, classes_by_rule, is_book, mass
@@ -25,6 +32,13 @@ from signfours.split.alike import (
 )
 from signfours.split.points import is_point, is_small_point, point_on, small_point
 from signfours.split.tables import algebra_at, four_of_table, is_table_pair, table_of, table_pair, zero_norm
+from signfours.text.formats import read_four, read_lattice, write_algebra, write_four
+from signfours.whole.hurwitz import (
+    exchange, factors_along, is_common, is_divided, is_exchange, is_factors, is_primitive, is_whole, whole_lattice,
+)
+from signfours.whole.points import exchange_order, points_of
+from signfours.whole.squares import count_four_squares, count_whole, four_squares, is_three_squares, three_squares, two_squares
+from signfours.whole.webs import Web, chosen_fours, point_of
 
 HAMILTON, ELEVEN = Algebra(-1, -1), Algebra(-1, -11)
 SPLIT, TEN = Algebra(1, 1), Algebra(2, 5)
@@ -208,6 +222,89 @@ class Examples(unittest.TestCase):
         self.assertEqual(
             [fours[four][four], fours[six][four], ways_table(book, 2, 2) == fours, [sum(row) for row in ways_table(book, 2, 3)], ways_table(book, 3, 0)],
             [4, 3, True, [12, 12], ((1, 0), (0, 1))])
+
+    def test_forms_in_two_unknowns(self):
+        self.assertEqual(
+            [reduced_forms(23), class_number(12), class_number(21), unit_number(3), unit_number(4), is_reduced((2, 2, 2)), is_reduced((2, -2, 3))],
+            [((1, 1, 6), (2, -1, 3), (2, 1, 3)), 1, 0, 6, 4, True, False])
+        self.assertEqual(
+            [reduced((3, 5, 4))[0], is_reducing((3, 5, 4), ((2, 1, 3), ((-1, -1), (1, 0)))), is_reducing((3, 5, 4), ((2, 1, 3), ((1, 0), (0, 1))))],
+            [(2, 1, 3), True, False])
+        self.assertEqual(
+            ([trace_by_forms((11,), many) for many in (1, 2, 3)], [str(summand((11,), trace, 3)) for trace in (0, 1, 2, 3, 4)]),
+            ([2, 1, 3], ['4/3', '1/2', '0', '1/3', '0']))
+        best = greatest_over(plain_order(HAMILTON))
+        self.assertEqual(
+            [fours_with(best, 0, 1), fours_with(best, 1, 1), fours_with(best, 2, 1), str(summand((2,), 0, 1)), str(summand((2,), 2, 1))],
+            [6, 8, 1, '1/4', '1/24'])
+
+    def test_forms_in_three_unknowns(self):
+        WHOLE, WHOLE3 = greatest_over(plain_order(HAMILTON)), (4, 4, 3, 4, 4, 0)
+        self.assertEqual(
+            [is_form(WHOLE3), form_discriminant(WHOLE3), form_value(WHOLE3, 1, 0, -1), value_counts(WHOLE3, 8), is_form((1, 1, 1, 2, 0, 0)), is_form((1, 0, 0, 0, 0, 0))],
+            [True, 64, 3, (1, 0, 0, 8, 6, 0, 0, 0, 12), False, False])
+        I, J = Four(HAMILTON, (0, 2, 0, 0)), Four(HAMILTON, (0, 0, 2, 0))
+        self.assertEqual(
+            [form_of((I, J, Four(HAMILTON, (0, 1, 1, 1)))) == WHOLE3, is_turning_basis(WHOLE, (I, J, Four(HAMILTON, (0, 1, 1, 1)))), is_turning_basis(WHOLE, (I, J, J))],
+            [True, True, False])
+        self.assertEqual(
+            [are_forms_alike(three_form(WHOLE), WHOLE3), are_forms_alike((1, 1, 16, 0, 0, 0), WHOLE3), is_form_lead(WHOLE3, WHOLE3, ((0, -1, -1), (1, 0, 0), (0, 0, 1)))],
+            [True, False, True])
+
+    def test_whole_fours(self):
+        ONE, I, J, K = HAMILTON.basis()
+        HALF, ODD = Four(HAMILTON, (1, 1, 1, 1), 2), ONE + I + J
+        self.assertEqual(
+            [is_whole(HALF), is_whole(HALF + ONE), is_whole(ONE.scaled(Ratio(1, 2))), HALF in whole_lattice(), is_primitive(HALF + HALF), is_primitive(HALF + ONE)],
+            [True, True, False, True, False, True])
+        self.assertEqual(
+            [is_divided(ONE.scaled(5), ONE + I, (Four(HAMILTON, (2, -3, 0, 0)), I)), is_divided(ODD, ODD, (ONE, ODD - ODD)), is_common(ONE.scaled(3), ODD, (ODD, ODD - ODD, ONE))],
+            [True, True, True])
+        EVEN = (ONE + I) * ODD
+        self.assertEqual(
+            [str(EVEN), is_primitive(EVEN), is_factors(EVEN, (2, 3), (ONE + I, ODD)), is_factors(EVEN, (2, 3), ((ONE + I) * HALF, HALF.mate() * ODD)), len(factors_along(EVEN, (3, 2)))],
+            ['2i+j+k', True, True, True, 2])
+        FOUR = ONE.scaled(2) + I
+        self.assertEqual(
+            [[str(point) for point in points_of(3)], exchange_order(FOUR, 3), is_exchange(ODD, FOUR, exchange(ODD, FOUR))],
+            [['(-3-i-j-k)/2', '(-3-i-j+k)/2', '(-3-i+j-k)/2', '(-3-i+j+k)/2'], (2, 0, 3, 1), True])
+        self.assertEqual(
+            [[count_four_squares(number) for number in (1, 2, 3, 4)], count_whole(6), four_squares(12), three_squares(28), two_squares(21), is_three_squares(14, (-3, 1, 2))],
+            [[8, 24, 32, 24], 96, ((2, 2, 2, 0), (3, 1, 1, 1)), None, None, True])
+
+    def test_webs(self):
+        web = Web(5, 3)
+        self.assertEqual(
+            [[str(one) for one in chosen_fours(5)][:2], len(chosen_fours(13)), len(web), len(web.sides[0]), len(Web(13, 3)), Web(13, 3).sides],
+            [['1-2i', '1-2j'], 14, 24, 12, 12, None])
+        self.assertEqual(web.neighbours_of((1, 0, 0, 0)), ((1, 1, 0, 0), (1, 0, 1, 0), (1, 0, 0, 1), (1, 0, 0, 2), (1, 0, 2, 0), (1, 2, 0, 0)))
+        self.assertEqual(
+            [web.ways(1), web.ways(2), web.ways(4), web.straight_ways(2), web.straight_ways(4), point_of(Four(HAMILTON, (2, 1, 0, 0)), 3)],
+            [0, 6, 120, 0, 54, (1, 2, 0, 0)])
+        with self.assertRaises(InvalidNumber) as caught:
+            Web(7, 3)
+        self.assertEqual(caught.exception.given, 7)
+
+    def test_texts_and_a_desk(self):
+        HALF = Four(HAMILTON, (1, 1, 1, 1), 2)
+        self.assertEqual(
+            [write_four(HALF), read_four("(-1, -1): 1 1 1 1/2") == HALF, write_algebra(ELEVEN), read_lattice("(-1, -1): 1 0 0 0; 0 1 0 0; 0 0 1 0; 0 0 0 1") == plain_order(HAMILTON)],
+            ['(-1, -1): 1 1 1 1/2', True, '(-1, -11)', True])
+        for text, spot in (("(-1, -1): 2 0 0 0/2", 2), ("(-1, 0): 2 0 0 0", 0)):
+            with self.assertRaises(ParseError) as caught:
+                read_four(text)
+            self.assertEqual(caught.exception.spot, spot)
+        desk = Desk(HAMILTON)
+        desk.do(("put", "h", HALF), ("put", "plain", plain_order(HAMILTON)), ("put", "best", greatest_over(plain_order(HAMILTON))))
+        self.assertEqual([desk.say(saying) for saying in (("member", "h", "best"), ("within", "plain", "best"), ("greatest", "best"))], [None, None, None])
+        self.assertEqual(
+            [desk.is_true(("member", "h", "plain")), desk.is_true(("norm", "h", Ratio(1))), desk.past, str(desk)],
+            [False, True, 4, 'desk of (-1, -1): 3 things, 3 sayings'])
+        with self.assertRaises(Refused) as caught:
+            desk.do(("meet", "best", "plain", "best"))
+        self.assertEqual(caught.exception.reason, ('broken', ('member', 'h', 'best')))
+        desk.do(("lead", Four(HAMILTON, (1, 1, 0, 0))), ("scale", "plain", Ratio(2)))
+        self.assertEqual([desk["h"] == HALF, desk.is_true(("order", "plain")), desk.past], [False, False, 5])
 
 
 if __name__ == "__main__":

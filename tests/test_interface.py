@@ -34,6 +34,24 @@ FUNCTIONS = {
     "signfours.ideal.tables": (
         "table_of_neighbours(book, n)", "primitive_table(book, n)", "ways_table(book, prime, many)", "is_joined(book, prime)",
         "is_balanced(book, table)", "table_product(one, other)", "table_trace(table)"),
+    "signfours.form.twos": (
+        "reduced_forms(number)", "class_number(number)", "unit_number(number)", "is_reduced(value)", "reduced(form)",
+        "is_reducing(form, value)", "summand(primes, trace, many)", "trace_by_forms(primes, many)", "fours_with(order, trace, many)"),
+    "signfours.form.threes": (
+        "form_discriminant(form)", "is_form(value)", "form_value(form, x, y, z)", "value_counts(form, most)", "turning_basis(order)",
+        "is_turning_basis(order, value)", "form_of(fours)", "three_form(order)", "are_forms_alike(one, other)", "form_lead(one, other)",
+        "is_form_lead(one, other, value)"),
+    "signfours.whole.hurwitz": (
+        "whole_lattice()", "is_whole(value)", "is_primitive(value)", "divided(one, other, *, ahead=False)",
+        "is_divided(one, other, value, *, ahead=False)", "common(one, other, *, ahead=False)", "is_common(one, other, value, *, ahead=False)",
+        "factors_along(four, primes)", "is_factors(four, primes, value)", "exchange(one, other)", "is_exchange(one, other, value)"),
+    "signfours.whole.points": ("points_of(prime)", "exchange_order(four, prime)"),
+    "signfours.whole.squares": (
+        "count_four_squares(number)", "count_whole(number)", "four_squares(number)", "three_squares(number)", "two_squares(number)",
+        "is_three_squares(number, value)"),
+    "signfours.whole.webs": ("chosen_fours(prime)", "point_of(four, modulus)"),
+    "signfours.text.formats": (
+        "write_algebra(algebra)", "write_four(four)", "write_lattice(lattice)", "read_algebra(text)", "read_four(text)", "read_lattice(text)"),
 }
 CLASSES = {
     ("signfours.base.ratios", "Ratio"): (
@@ -46,6 +64,10 @@ CLASSES = {
         "__eq__ __str__", "(algebra, fours)"),
     ("signfours.ideal.classes", "Book"): (
         "index order_at lead kinds __eq__ __len__ __contains__ __iter__ __str__", "(order)"),
+    ("signfours.whole.webs", "Web"): (
+        "neighbours_of ways straight_ways __contains__ __len__ __iter__ __eq__ __str__", "(prime, modulus)"),
+    ("signfours.desk.desk", "Desk"): (
+        "things past do say unsay is_true undo twin __contains__ __getitem__ __len__ __iter__ __eq__ __str__", "(algebra)"),
 }
 CONSTANTS = {
     "signfours.base.numbers": {"MAX_NUMBER": 10 ** 9}, "signfours.split.points": {"MAX_NUMBER": 1000000, "MAX_SMALL": 200},
@@ -53,7 +75,16 @@ CONSTANTS = {
     "signfours.split.alike": {"MAX_SIDE": 10 ** 4, "MAX_COMMON": 10 ** 9, "MAX_JOINED": 10 ** 8},
     "signfours.order.orders": {"MAX_DISCRIMINANT": 10 ** 6}, "signfours.order.norms": {"MAX_WEIGHT": 200},
     "signfours.ideal.ideals": {"MAX_STEP": 13, "MAX_NORM": 30}, "signfours.ideal.classes": {"MAX_CLASSES": 12},
-    "signfours.ideal.tables": {"MAX_TABLE": 30, "MAX_STEPS": 20},
+    "signfours.ideal.tables": {"MAX_TABLE": 30, "MAX_STEPS": 20}, "signfours.form.twos": {"MAX_NUMBER": 2000},
+    "signfours.form.threes": {"MAX_VALUE": 1000, "MAX_ENTRY": 1000000, "MAX_TURNED": 1000},
+    "signfours.whole.hurwitz": {"MAX_FACTOR": 1000}, "signfours.whole.points": {"MAX_POINTS": 100},
+    "signfours.whole.squares": {"MAX_SQUARED": 10 ** 8}, "signfours.whole.webs": {"MAX_CHOSEN": 61, "MAX_MODULUS": 13, "MAX_WAYS": 40},
+    "signfours.desk.desk": {"MAX_NAME": 8, "MAX_SAID": 30},
+}
+# The parameters of methods.
+METHODS = {
+    ("signfours.desk.desk", "Desk"): ("do(self, *deeds)", "say(self, saying)", "unsay(self, saying)", "is_true(self, value)", "undo(self, steps=1)", "twin(self)"),
+    ("signfours.whole.webs", "Web"): ("neighbours_of(self, point)", "ways(self, many)", "straight_ways(self, many)"),
 }
 
 
@@ -74,6 +105,13 @@ class Interface(unittest.TestCase):
             self.assertEqual(str(inspect.signature(kind)), parameters)
             for method in methods.split():
                 self.assertIn(method, vars(kind), (name, method))
+
+    def test_methods(self):
+        for (module, name), texts in METHODS.items():
+            kind = getattr(importlib.import_module(module), name)
+            for text in texts:
+                method = text.partition("(")[0]
+                self.assertEqual(method + str(inspect.signature(vars(kind)[method])), text)
 
     def test_constants(self):
         for module, told in CONSTANTS.items():

@@ -6,6 +6,9 @@ import unittest
 from math import gcd, prod
 
 from signfours.base.numbers import square_free
+from signfours.desk.desk import Desk
+from signfours.form.threes import form_lead, is_turning_basis, three_form, turning_basis, value_counts
+from signfours.form.twos import fours_with, reduced, reduced_forms, summand, trace_by_forms
 from signfours.four.fours import Algebra, Four
 from signfours.ideal.classes import Book, is_book
 from signfours.ideal.ideals import between, ideals_of, is_ideal, neighbours
@@ -16,7 +19,12 @@ from signfours.order.orders import greater, greatest_over, is_order, outside, pl
 from signfours.split.alike import common_root, images, joined, root_paper
 from signfours.split.points import point_on, small_point
 from signfours.split.tables import algebra_at, table_pair, zero_norm
-from tests.support import Case, ELEVEN, GREAT, HURWITZ, SIXTY, led, random_four
+from signfours.text.formats import read_lattice, write_lattice
+from signfours.whole.hurwitz import common, divided, exchange, factors_along, is_factors
+from signfours.whole.points import exchange_order, points_of
+from signfours.whole.squares import count_whole, four_squares, three_squares, two_squares
+from signfours.whole.webs import Web
+from tests.support import Case, ELEVEN, GREAT, HALF, HAMILTON, HURWITZ, ONE, SIXTY, led, random_four, random_lattice
 from tests.test_classes import placed
 
 
@@ -137,6 +145,67 @@ class Times(Case):
             self.quick(1, book.kinds)
             self.quick(1, book.index, book.ideals[-1].by(random_four(draw, order.algebra, SIXTY)))
             self.quick(1, table_of_neighbours, book, 30)
+
+    def test_forms_in_two_unknowns(self):
+        draw = random.Random(106)
+        self.quick(0.1, reduced_forms, 1999)
+        self.quick(0.3, trace_by_forms, (2, 3, 19), 200)
+        self.quick(0.1, summand, (2, 3, 19), 0, 200)
+        self.quick(0.1, reduced, (SIXTY, SIXTY - 1, SIXTY))
+        self.quick(1, fours_with, HURWITZ, 0, 195)
+        self.quick(1, fours_with, led(GREAT, random_four(draw, ELEVEN, SIXTY, SIXTY)), 1, 200)
+
+    def test_forms_in_three_unknowns(self):
+        draw = random.Random(107)
+        for form in ((1, 1, 1, 1, 1, 1), (1, 1, 1, 0, 0, 0), (1, 1, 1000000, 0, 0, 0), (1, 90001, 580001, 420600, 1400, 600)):
+            self.quick(0.5, value_counts, form, 1000)
+        for form in ((1, 1, 250000, 0, 0, 0), (1, 500, 500, 0, 0, 0), (1, 90001, 580001, 420600, 1400, 600), (63, 63, 63, 1, 2, 3)):
+            self.assertIsNotNone(self.quick(0.2, form_lead, form, form))
+        for order in (HURWITZ, greatest_over(plain_order(placed((997,))))):
+            order = led(order, random_four(draw, order.algebra, SIXTY, SIXTY))
+            basis = self.quick(0.5, turning_basis, order)
+            self.quick(0.5, is_turning_basis, order, basis)
+            self.quick(0.5, three_form, order)
+
+    def test_whole_fours(self):
+        draw = random.Random(108)
+        one, other = [Four(HAMILTON, tuple(draw.randint(-SIXTY, SIXTY) for _ in range(4))) for _ in range(2)]
+        self.quick(0.1, divided, one, other)
+        self.quick(0.5, common, one, other)
+        twos = (2,) * 397
+        four = Four(HAMILTON, (2 ** 198, 0, 0, 2 ** 198))
+        found = self.quick(1, factors_along, four, twos)
+        self.assertTrue(self.quick(0.5, is_factors, four, twos, found))
+        self.quick(0.5, factors_along, Four(HAMILTON, (30, 9, 4, 0)).power(100), (997,) * 100)
+        self.quick(0.1, exchange, Four(HAMILTON, (30, 9, 4, 0)), Four(HAMILTON, (31, 3, 3, 2)))
+        self.quick(0.5, points_of, 97)
+        self.quick(0.5, exchange_order, one * HALF, 97 if one.norm.top % 97 else 89)
+
+    def test_squares(self):
+        for number in (99999989, 99999999, 10 ** 8, 99999997, 9999 ** 2, 9973 * 9949):
+            self.quick(0.1, three_squares, number)
+            self.quick(0.1, two_squares, number)
+            self.quick(0.1, count_whole, number)
+        self.quick(0.1, four_squares, 200)
+
+    def test_webs(self):
+        for prime, modulus in ((61, 13), (37, 13), (61, 11), (5, 13)):
+            web = self.quick(0.3, Web, prime, modulus)
+            self.quick(0.5, web.ways, 40)
+            self.quick(0.5, web.straight_ways, 40)
+
+    def test_desks(self):
+        draw = random.Random(109)
+        desk = Desk(HAMILTON)
+        four = random_four(draw, HAMILTON, SIXTY, SIXTY)
+        names = [one + other for one in "abcdef" for other in "abcde"]
+        desk.do(*[("put", name, led(HURWITZ, four)) for name in names])
+        for name in names:
+            desk.say(("greatest", name))
+        self.quick(3, desk.do, ("lead", random_four(draw, HAMILTON, SIXTY, SIXTY)), ("put", "one", ONE))
+        self.quick(0.1, desk.twin)
+        lattice = random_lattice(draw, ELEVEN, 10 ** 13, 9)
+        self.quick(0.1, read_lattice, write_lattice(lattice))
 
 
 if __name__ == "__main__":

@@ -130,7 +130,7 @@ def is_primes_of(value, number):
         if left % part != 0:
             return False
         left = left // part
-    return left == 1 and all([is_prime(part) for part in value])
+    return left == 1 and all([is_prime(part) for part in sorted(set(value))])
 
 
 def check_whole(value):
