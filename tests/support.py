@@ -40,7 +40,7 @@ GREAT = Lattice(ELEVEN, ELEVEN.basis()[:2] + (Four(ELEVEN, (1, 0, 1, 0), 2), Fou
 # Values of many kinds, with objects of the package among them.
 VALUES = NO_INTEGERS + TOO_LONG + (
     0, 1, -1, 2, HALF, ELEVEN, PLAIN, HURWITZ, GREAT, Book(GREAT), (PLAIN,), (HALF, HALF), (ONE, I, J, K), [PLAIN],
-    Web(5, 3), Desk(HAMILTON), (1, 1, 6), (4, 4, 3, 4, 4, 0), ((1, 0), (0, 1)),
+    Web(5, 3), Desk(HAMILTON), (1, 1, 6), (4, 4, 3, 4, 4, 0),
 )
 NO_LATTICES = tuple(value for value in VALUES if not isinstance(value, Lattice))
 
