@@ -313,6 +313,17 @@ class Turnings(Case):
             self.assertFalse([at for at in range(61) if counts[at] and at % 4 in (1, 2)])
         self.assertTrue(tried > 30 and great > 5)
 
+    def test_bound(self):
+        for a, b in ((-1, -250), (-2, -125), (-10, -25)):
+            order = plain_order(Algebra(a, b))
+            self.assertEqual(order_discriminant(order), 1000)
+            self.judged(order, turning_basis(order))
+            self.assertEqual(form_discriminant(three_form(order)), 16 * 10 ** 6)
+        order = plain_order(Algebra(-1, -251))
+        self.assertEqual(order_discriminant(order), 1004)
+        self.too_many(1000, turning_basis, order)
+        self.assertIs(is_turning_basis(order, tuple(four.scaled(2) for four in order.algebra.basis()[1:])), True)
+
     def judged(self, order, basis):
         """A triple of fours is a basis of all 2 x - t for members x of the order."""
         self.assertIs(is_turning_basis(order, basis), True)

@@ -14,6 +14,7 @@ from signfours.order.orders import is_greatest, order_discriminant
 from signfours.whole.hurwitz import (
     common, divided, exchange, factors_along, is_common, is_divided, is_exchange, is_factors, is_primitive, is_whole, whole_lattice,
 )
+from signfours.whole.parts import nearest_quotient
 from signfours.whole.points import exchange_order, points_of
 from tests.support import (
     Case, ELEVEN, HALF, HAMILTON, HURWITZ, I, J, K, LONG, NO_INTEGERS, NO_PRIMES, ONE, SIXTY, TOO_LONG, VALUES, primes_to,
@@ -119,6 +120,13 @@ class Divisions(Case):
                     self.assertTrue(fits(told))
             self.assertEqual(divided(one, other), divided(one, other, ahead=False))
 
+    def test_nearest_quotients(self):
+        # Euclid's steps at least halve the norm.
+        for one, other in self.drawn():
+            if other:
+                rest = one - nearest_quotient(one, other) * other
+                self.assertLessEqual(2 * rest.norm.top, other.norm.top)
+
     def test_all_right_pairs(self):
         # Of all pairs with whole quotients near the quotient just those with a rest of less norm are right.
         small = [four for many in range(5) for four in fours_of(HURWITZ, many)]
@@ -185,7 +193,7 @@ class Commons(Case):
 
     def test_common_factors(self):
         draw = random.Random(1203)
-        for _ in range(120):
+        for _ in range(80):
             size = draw.choice((3, 20, 10 ** 9, SIXTY))
             one, other = whole(draw, size), whole(draw, size)
             if size < SIXTY and draw.random() < 0.6:
@@ -200,6 +208,22 @@ class Commons(Case):
                 self.judged(one, other, told, ahead)
                 self.assertTrue(fits(told))
                 self.assertEqual(common(one, other, ahead=ahead), told)
+
+    def test_sixty_digits(self):
+        draw = random.Random(1210)
+
+        def entry():
+            return draw.choice((1, -1)) * draw.randint(LONG // 2, SIXTY)
+
+        for _ in range(50):
+            pair = []
+            for _ in range(2):
+                halves = draw.random() < 0.5
+                pair.append(Four(HAMILTON, tuple((entry() - 1) // 2 * 2 + 1 if halves else entry() for _ in range(4)), 2 if halves else 1))
+            told = common(*pair)
+            self.judged(*pair, told, False)
+            # Halves can take a digit more; then others are told.
+            self.assertTrue(fits(told))
 
     def judged(self, one, other, told, ahead):
         factor, first, second = told
@@ -340,6 +364,8 @@ class Factors(Case):
         self.assertIs(is_factors(even, (3, 2), (x, y)), False)
         self.assertIs(is_factors(ODD, (3,), (ODD,)), True)
         self.assertEqual(factors_along(ODD, (3,)), (ODD,))
+        self.assertEqual(factors_along(ONE + I, (2,)), (ONE + I,))
+        self.assertIs(is_factors(ONE + I, (2,), (ONE + I,)), True)
 
     def test_errors(self):
         for given in NO_WHOLES + (ZERO, ONE, HALF, -I):
