@@ -32,8 +32,7 @@ class Web:
         self.modulus = modulus
         self.steps = tuple([told_point(four.entries, modulus) for four in chosen_fours(prime)])
         even, odd = points_by_sign(modulus)
-        # Each step multiplies the sum of the squares by the prime, and all points that can be
-        # reached so are reached.
+        # Each step multiplies the sum of the squares by the prime; but for that, all points are reached.
         if rest_sign(prime, modulus) == 1:
             self.points = tuple(even)
             self.sides = None
@@ -55,8 +54,8 @@ class Web:
     def straight_ways(self, many):
         """How many ways of so many steps that do not turn back lead from a point back to it."""
         check_ways(many)
-        # Each step behind a way turns back for one of them, or makes a longer one that does not; it
-        # turns back to each shorter way by `prime` ways, but by one more to that of no steps.
+        # A step more makes some of these ways turn back, each to one that is shorter by a step. Each
+        # shorter way is met so `prime` times, but that of no steps once more.
         return ways_back(self, many, self.prime + 1, self.prime)
 
     def __contains__(self, value):
@@ -134,8 +133,7 @@ def is_point_of(web, value):
 def ways_back(web, many, first, later):
     """How many ways of so many steps lead back, if those that turn back are taken off.
 
-    A way that is made longer by one step turns back to each way with a step less by `later` steps,
-    and by `first` steps to the one without any.
+    Those are, for each way that is shorter by two steps, `later` ones, and `first` ones for that of no steps.
     """
     rows = shape_rows(web)
     ahead, made = [0] * len(rows), [1] + [0] * (len(rows) - 1)
