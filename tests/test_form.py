@@ -138,6 +138,12 @@ class Imports(unittest.TestCase):
             for name in free:
                 del edges[name]
 
+    def test_all_are_used(self):
+        for path, tree in TREES.items():
+            bound = {alias.name for node in self.imported(tree) for alias in node.names}
+            used = {node.id for node in ast.walk(tree) if isinstance(node, ast.Name)}
+            self.assertEqual(bound - used, set(), path)
+
     def test_no_other_meaning(self):
         for path, tree in TREES.items():
             taken = {name for node in tree.body if isinstance(node, (ast.ImportFrom, ast.ClassDef))

@@ -1,12 +1,11 @@
 """The texts of algebras, fours and lattices, and how they are read."""
 
-from signfours.base.checks import TOO_LONG, is_integer
 from signfours.base.numbers import MAX_NUMBER
 from signfours.base.ratios import is_digits
 from signfours.errors import ParseError
 from signfours.four.fours import Algebra, check_algebra, check_four, made_four
 from signfours.order.grids import grid_of
-from signfours.order.lattices import check_lattice, grid_in, made_lattice
+from signfours.order.lattices import check_lattice, made_lattice
 
 LONGEST = 60
 

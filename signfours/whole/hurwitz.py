@@ -30,9 +30,9 @@ def is_primitive(value):
     if not is_whole_four(value) or not value:
         return False
     w, x, y, z = doubled(value)
-    common = gcd(w, x, y, z)
-    # Integers without a common divisor are twice the entries of a whole four if all are odd.
-    return common == 1 or (common == 2 and not all([part // 2 % 2 == 1 for part in (w, x, y, z)]))
+    shared = gcd(w, x, y, z)
+    # Integers without a common divisor are twice the entries of another whole four if all are odd.
+    return shared == 1 or (shared == 2 and not all([part // 2 % 2 == 1 for part in (w, x, y, z)]))
 
 
 def divided(one, other, *, ahead=False):
